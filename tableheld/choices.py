@@ -7,14 +7,14 @@ FORBIDDEN = 1000000
 class Choices:
     """Fates for rows 0 to many - 1, one by one, and for those of the other table, so that each has exactly one.
 
-    fates is a dict of the allowed fates and their costs; the others count as FORBIDDEN each, so that there always is
+    allowed is a dict of the allowed fates and their costs; the others count as FORBIDDEN each, so that there always is
     a least cost. It is below FORBIDDEN exactly if the allowed ones suffice.
 
     The rows of the other table that are taken already are the bits of a number, taken.
     """
 
-    def __init__(self, fates, many, many_other):
-        self.fates = fates
+    def __init__(self, allowed, many, many_other):
+        self.allowed = allowed
         self.many = many
         self.many_other = many_other
         self.rest = self.rest_costs()
@@ -22,7 +22,7 @@ class Choices:
 
     def fate_cost(self, i, j):
         """Return the cost of a fate."""
-        return self.fates.get((i, j), FORBIDDEN)
+        return self.allowed.get((i, j), FORBIDDEN)
 
     def left_over(self, taken):
         """Return the places of the other table that are not taken."""

@@ -7,7 +7,8 @@ from tableheld.alignments import (
     is_true_of_pairs, keeps_conditions,
 )
 from tableheld.errors import BadKind, NoPlace, NotBest
-from tableheld.leasts import are_bounds, best_solutions, bounds_of, least_cost, solutions
+from tableheld.fates import allowed_fates
+from tableheld.leasts import Solution, are_bounds, best_solutions, bounds_of, least_cost, solutions
 from tableheld.values import is_place
 
 
@@ -112,7 +113,23 @@ class Comparison:
             (i, self.one, "row"), (j, self.other, "row"), (c, self.one, "column"), (d, self.other, "column"),
         ):
             check_place(place, how_many_places(table, kind))
-        return any([(c, d) in part.pairs and part.how_many_with("row", i, j) > 0 for part in self.parts])
+        return len(self.parts_with(i, j, c, d)) > 0
+
+    def cell_sources(self, j, d):
+        """Return tuples (i, c) of what row j and column d of other were in the same best alignment; None if it came."""
+        rows, columns = [[*places_of(self.one, kind), None] for kind in ("row", "column")]
+        return [(i, c) for i in rows for c in columns if self.parts_with(i, j, c, d)]
+
+    def parts_with(self, i, j, c, d):
+        """Return the parts in which claims about a row and about a column are true of the same best alignment."""
+        of_columns = [part for part in self.parts if is_true_of_pairs(part.pairs, c, d)]
+        return [part for part in of_columns if part.how_many_with("row", i, j) > 0]
+
+    def example(self, i, j, c, d):
+        """Return a best alignment of which a claim about a row and one about a column are true; there must be one."""
+        pairs = self.parts_with(i, j, c, d)[0].pairs
+        fates = allowed_fates(self.one, self.other, (*self.conditions, ("row", i, j, True)))
+        return Solution(self.one, self.other, self.costs, pairs, fates).alignment()
 
     def solutions_if(self, kind, i, j, truth):
         """Return the solutions with one more condition."""

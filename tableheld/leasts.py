@@ -2,6 +2,7 @@
 
 from tableheld.alignments import check_conditions, cost_of_columns
 from tableheld.choices import FORBIDDEN, Choices
+from tableheld.costs import Costs
 from tableheld.errors import NoAlignment
 from tableheld.fates import allowed_fates, fate_costs, kept_pairings
 from tableheld.values import is_integer
@@ -43,6 +44,15 @@ def best_solutions(found):
     if lowest >= FORBIDDEN:
         raise NoAlignment()
     return [solution for solution in found if solution.cost == lowest]
+
+
+def can_be_kept(one, other, conditions):
+    """Tell whether some alignment keeps all conditions."""
+    fates = allowed_fates(one, other, conditions)
+    pairings = kept_pairings(one, other, conditions)
+    # What rows may do hangs on whether columns are paired, not on how: () is the first pairing, if it is one.
+    either = [*pairings[:1], *pairings[-1:]]
+    return any([Solution(one, other, Costs(), pairs, fates).cost < FORBIDDEN for pairs in either])
 
 
 def bounds_of(found):

@@ -136,7 +136,8 @@ class Sides:
 
     def came(self, joint, side):
         """Return the places of the rows of a side that came."""
-        return [place for place in range(len(self.tables[side].rows)) if by_hand.is_true(joint[side], "row", None, place)]
+        places = range(len(self.tables[side].rows))
+        return [place for place in places if by_hand.is_true(joint[side], "row", None, place)]
 
     def rows(self, joint):
         """Return the rows of a joint choice, in the usual sequence."""

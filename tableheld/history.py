@@ -34,7 +34,7 @@ def check_version(value, least, most):
 
 def conditions_in(sayings):
     """Return the conditions that sayings add to their step."""
-    return tuple([(kind, i, j, truth) for _, _, kind, i, j, truth in sayings])
+    return tuple([saying[2:] for saying in sayings])
 
 
 def contradicting(one, other, sayings):

@@ -50,9 +50,8 @@ def can_be_kept(one, other, conditions):
     """Tell whether some alignment keeps all conditions."""
     fates = allowed_fates(one, other, conditions)
     pairings = kept_pairings(one, other, conditions)
-    # What rows may do hangs on whether columns are paired, not on how: () is the first pairing, if it is one.
-    either = [*pairings[:1], *pairings[-1:]]
-    return any([Solution(one, other, Costs(), pairs, fates).cost < FORBIDDEN for pairs in either])
+    # Beside pairs of columns, whichever, rows may do all that they may do without; () is ahead of all other pairings.
+    return len(pairings) > 0 and Solution(one, other, Costs(), pairings[-1], fates).cost < FORBIDDEN
 
 
 def bounds_of(found):

@@ -104,7 +104,8 @@ def source_in(alignment, cell):
 
 def shows_may(comparisons, cell, setting, alignments):
     """Tell whether the members of a tuple are best alignments along which a cell has its value since a version."""
-    steps = comparisons[:len(comparisons) - max(setting, 1) + 1]
+    # If the setting is 0, these are all comparisons.
+    steps = comparisons[:len(comparisons) - setting + 1]
     if len(alignments) != len(steps):
         return False
     known = cell
@@ -146,4 +147,4 @@ def shows_never(comparisons, cell, setting, lists):
     for comparison, known, ahead in zip(steps, lists, lists[1:]):
         if not all([source in ahead for member in known for source in sources_with_value(comparison, member)]):
             return False
-    return setting == 0 or setting_steps(steps[-1], lists[-1]) == []
+    return setting_steps(steps[-1], lists[-1]) == []

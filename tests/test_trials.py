@@ -315,6 +315,20 @@ class Within(unittest.TestCase):
         self.nested(history, 4, (1, 2, 3, 4))
         self.assertEqual(history.last, 4)
 
+    def test_a_fifth_behind_many(self):
+        for kept in ((), (1, 2, 3, 4)):
+            history = History(ONE)
+            for _ in range(3):
+                if history.last < 8:
+                    self.nested(history, 4, kept)
+                with self.assertRaises(Refused):
+                    with history.trial():
+                        raise Refused()
+            with history.trial(), history.trial(), history.trial(), history.trial():
+                with self.assertRaises(TooMany) as caught:
+                    history.tried(lambda trial: None)
+            self.assertEqual(caught.exception.limit, 4)
+
     def test_a_fifth_that_is_caught(self):
         history = History(ONE)
         with history.trial() as first, history.trial() as second, history.trial() as third, history.trial() as fourth:
